@@ -1,0 +1,85 @@
+// Package tidings: a feed of changes to a view that outlives crashes, and mirrors that catch up with it over a faulty network: see DOC.md.
+package tidings
+
+import (
+	"errors"
+
+	"tidings/api"
+	"tidings/code"
+	"tidings/fault"
+	"tidings/lists"
+)
+
+// Source keeps the history of a view; Mirror follows one.
+type Source struct{}
+
+type Mirror struct{}
+
+// Normal puts entries in order (P4).
+func Normal(l []api.Entry) ([]api.Entry, api.Errno) {
+	out, err := lists.Normal(l)
+	return out, errnoOf(err)
+}
+
+// Less takes entries away (P4).
+func Less(l []api.Entry, m []api.Entry) ([]api.Entry, api.Errno) {
+	out, err := lists.Less(l, m)
+	return out, errnoOf(err)
+}
+
+// Encode writes entries as bytes (P5).
+func Encode(l []api.Entry) (string, api.Errno) {
+	s, err := code.Write(l)
+	return s, errnoOf(err)
+}
+
+// Decode reads them (P5).
+func Decode(s string) ([]api.Entry, api.Errno) {
+	l, err := code.Read(s)
+	return l, errnoOf(err)
+}
+
+// errnoOf asks for bytes first: what was wrong with the list inside them has a number too.
+func errnoOf(err error) api.Errno {
+	var n fault.Number
+	switch {
+	case errors.Is(err, code.ErrBytes):
+		return api.ErrCode
+	case errors.As(err, &n):
+		return api.Errno(n)
+	}
+	return api.OK
+}
+
+// Open opens the source that two files hold (P7, P10).
+func Open(a string, b string) (*Source, []api.Act, api.Errno) { return nil, nil, api.OK }
+
+// Publish adds a change (P8).
+func (s *Source) Publish(l []api.Entry) ([]api.Act, api.Errno) { return nil, api.OK }
+
+// Sync makes lasting what there is (P9).
+func (s *Source) Sync() []api.Act { return nil }
+
+// Compact forgets the views ahead of a time (P9).
+func (s *Source) Compact(time int) ([]api.Act, api.Errno) { return nil, api.OK }
+
+// View tells the view at a time (P8).
+func (s *Source) View(time int) ([]api.Entry, api.Errno) { return nil, api.OK }
+
+// Span tells which times there are (P8).
+func (s *Source) Span() api.Span { return api.Span{} }
+
+// Handle takes a datagram in (P11).
+func (s *Source) Handle(data string) []string { return nil }
+
+// NewMirror makes a mirror (P12).
+func NewMirror() *Mirror { return nil }
+
+// Tick lets a tick go by (P12).
+func (m *Mirror) Tick() []string { return nil }
+
+// Handle takes a datagram in (P12).
+func (m *Mirror) Handle(data string) []string { return nil }
+
+// View tells what the mirror shows, and of which time (P12).
+func (m *Mirror) View() ([]api.Entry, int) { return nil, 0 }
