@@ -8,6 +8,7 @@ import (
 	"strings"
 	"sync"
 	"testing"
+	"time"
 	"unsafe"
 
 	"tidings/api"
@@ -266,11 +267,11 @@ func TestNoGoroutineIsLeft(t *testing.T) {
 		tidings.Less(nil, nil)
 	}
 	// A goroutine that has said its last word may still be counted for a moment.
-	for range 10000 {
+	for range 500 {
 		if runtime.NumGoroutine() <= before {
 			return
 		}
-		runtime.Gosched()
+		time.Sleep(10 * time.Millisecond)
 	}
 	t.Errorf("%d goroutines, %d ahead of the calls", runtime.NumGoroutine(), before)
 }
