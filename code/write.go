@@ -7,7 +7,7 @@ import (
 
 // Write writes a list as bytes; it answers ErrValue, ErrMany or ErrOrder for what is no list in order.
 func Write(l []api.Entry) (string, error) {
-	if err := lists.Check(l); err != nil {
+	if err := lists.Check(l, api.MaxRows); err != nil {
 		return "", err
 	}
 	if err := lists.CheckOrder(l); err != nil {

@@ -20,6 +20,12 @@ func (n Number) Error() string {
 		return "a weight that 64 bits do not hold"
 	case api.ErrOrder:
 		return "not in order"
+	case api.ErrFiles:
+		return "files that no source has left behind"
+	case api.ErrTime:
+		return "a time that is not kept"
+	case api.ErrFull:
+		return "no more room"
 	}
 	return "error " + strconv.Itoa(int(n))
 }

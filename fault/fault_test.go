@@ -29,6 +29,9 @@ func TestTextNamesThePlaces(t *testing.T) {
 		{Number(api.ErrMany), "too many entries"},
 		{Number(api.ErrWeight), "a weight that 64 bits do not hold"},
 		{Number(api.ErrOrder), "not in order"},
+		{Number(api.ErrFiles), "files that no source has left behind"},
+		{Number(api.ErrTime), "a time that is not kept"},
+		{Number(api.ErrFull), "no more room"},
 		{Number(99), "error 99"},
 	} {
 		if c.err.Error() != c.want {

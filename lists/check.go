@@ -5,15 +5,15 @@ import (
 	"tidings/fault"
 )
 
-// Check answers ErrValue for a row that is none, or else ErrMany for too many entries.
-func Check(l []api.Entry) error {
+// Check answers ErrValue for a row that is none, or else ErrMany for more entries than there may be.
+func Check(l []api.Entry, most int) error {
 	for i := range l {
 		if err := checkRow(&l[i].Row); err != nil {
 			return fault.At("entry", i, err)
 		}
 	}
-	if len(l) > api.MaxRows {
-		return fault.At("entry", api.MaxRows, fault.Number(api.ErrMany))
+	if len(l) > most {
+		return fault.At("entry", most, fault.Number(api.ErrMany))
 	}
 	return nil
 }

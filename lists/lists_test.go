@@ -51,18 +51,20 @@ func TestCheckNamesEntryAndCell(t *testing.T) {
 	good := entry(1, number(1))
 	for _, c := range []struct {
 		l    []api.Entry
+		most int
 		want string
 	}{
-		{[]api.Entry{good, entry(1, number(1), text(strings.Repeat("x", 17)))}, "entry 1: cell 1: no value"},
-		{[]api.Entry{{Row: api.Row{Width: -1}}}, "entry 0: width -1: no value"},
-		{[]api.Entry{{Row: api.Row{Width: math.MaxInt}}}, "entry 0: width 9223372036854775807: no value"},
-		{slices.Repeat([]api.Entry{good}, 129), "entry 128: too many entries"},
+		{[]api.Entry{good, entry(1, number(1), text(strings.Repeat("x", 17)))}, 1, "entry 1: cell 1: no value"},
+		{[]api.Entry{{Row: api.Row{Width: -1}}}, 128, "entry 0: width -1: no value"},
+		{[]api.Entry{{Row: api.Row{Width: math.MaxInt}}}, 128, "entry 0: width 9223372036854775807: no value"},
+		{slices.Repeat([]api.Entry{good}, 129), 128, "entry 128: too many entries"},
+		{slices.Repeat([]api.Entry{good}, 33), 32, "entry 32: too many entries"},
 	} {
-		if err := Check(c.l); err == nil || err.Error() != c.want {
+		if err := Check(c.l, c.most); err == nil || err.Error() != c.want {
 			t.Errorf("Check: %v, want %s", err, c.want)
 		}
 	}
-	if err := Check(slices.Repeat([]api.Entry{good}, 128)); err != nil {
+	if err := Check(slices.Repeat([]api.Entry{good}, 128), 128); err != nil {
 		t.Errorf("Check of 128 entries: %v", err)
 	}
 }

@@ -8,9 +8,9 @@ import (
 	"tidings/fault"
 )
 
-// Normal answers the sum of a list by itself, its entries in any order.
-func Normal(l []api.Entry) ([]api.Entry, error) {
-	if err := Check(l); err != nil {
+// Normal answers the sum of a list by itself, its entries in any order and so many at most.
+func Normal(l []api.Entry, most int) ([]api.Entry, error) {
+	if err := Check(l, most); err != nil {
 		return nil, err
 	}
 	return Sum(Term{List: sorted(l)})
@@ -18,11 +18,11 @@ func Normal(l []api.Entry) ([]api.Entry, error) {
 
 // Less answers the sum of l less the sum of m.
 func Less(l, m []api.Entry) ([]api.Entry, error) {
-	plus, err := Normal(l)
+	plus, err := Normal(l, api.MaxRows)
 	if err != nil {
 		return nil, fault.At("list", 0, err)
 	}
-	minus, err := Normal(m)
+	minus, err := Normal(m, api.MaxRows)
 	if err != nil {
 		return nil, fault.At("list", 1, err)
 	}

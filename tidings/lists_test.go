@@ -259,8 +259,15 @@ func TestCallsSideBySide(t *testing.T) {
 func TestNoGoroutineIsLeft(t *testing.T) {
 	one := number(1)
 	heavy := list(entry(most, one), entry(1, one), entry(1, number(2)), entry(1, number(3)))
+	source := opened(t)
+	publish(t, source, heavy[0])
 	before := runtime.NumGoroutine()
 	for range 200 {
+		source.Publish(heavy)
+		source.Publish(heavy[1:])
+		source.Publish(heavy[2:])
+		source.View(source.Span().Now)
+		source.View(-1)
 		tidings.Normal(heavy)
 		tidings.Less(heavy[:1], list(entry(-1, one), entry(1, number(5)), entry(1, number(6))))
 		tidings.Less(heavy[1:], heavy[2:])

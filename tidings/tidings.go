@@ -7,17 +7,20 @@ import (
 	"tidings/api"
 	"tidings/code"
 	"tidings/fault"
+	"tidings/history"
 	"tidings/lists"
 )
 
 // Source keeps the history of a view; Mirror follows one.
-type Source struct{}
+type Source struct {
+	past *history.History
+}
 
 type Mirror struct{}
 
 // Normal puts entries in order (P4).
 func Normal(l []api.Entry) ([]api.Entry, api.Errno) {
-	out, err := lists.Normal(l)
+	out, err := lists.Normal(l, api.MaxRows)
 	return out, errnoOf(err)
 }
 
@@ -52,10 +55,17 @@ func errnoOf(err error) api.Errno {
 }
 
 // Open opens the source that two files hold (P7, P10).
-func Open(a string, b string) (*Source, []api.Act, api.Errno) { return nil, nil, api.OK }
+func Open(a string, b string) (*Source, []api.Act, api.Errno) {
+	if a != "" || b != "" {
+		return nil, nil, api.ErrFiles
+	}
+	return &Source{past: history.New()}, nil, api.OK
+}
 
 // Publish adds a change (P8).
-func (s *Source) Publish(l []api.Entry) ([]api.Act, api.Errno) { return nil, api.OK }
+func (s *Source) Publish(l []api.Entry) ([]api.Act, api.Errno) {
+	return nil, errnoOf(s.past.Publish(l))
+}
 
 // Sync makes lasting what there is (P9).
 func (s *Source) Sync() []api.Act { return nil }
@@ -64,10 +74,15 @@ func (s *Source) Sync() []api.Act { return nil }
 func (s *Source) Compact(time int) ([]api.Act, api.Errno) { return nil, api.OK }
 
 // View tells the view at a time (P8).
-func (s *Source) View(time int) ([]api.Entry, api.Errno) { return nil, api.OK }
+func (s *Source) View(time int) ([]api.Entry, api.Errno) {
+	l, err := s.past.View(time)
+	return l, errnoOf(err)
+}
 
-// Span tells which times there are (P8).
-func (s *Source) Span() api.Span { return api.Span{} }
+// Span tells which times there are (P8). As long as no file is written nothing lasts.
+func (s *Source) Span() api.Span {
+	return api.Span{Floor: s.past.Floor(), Now: s.past.Now()}
+}
 
 // Handle takes a datagram in (P11).
 func (s *Source) Handle(data string) []string { return nil }
