@@ -19,22 +19,10 @@ var (
 	errAgain  = errors.New("the list is written as other bytes")
 )
 
-// unread is what was wrong with bytes, as an error of bytes.
-type unread struct {
-	err error
-}
-
-func (u *unread) Error() string { return ErrBytes.Error() + ": " + u.err.Error() }
-
-func (u *unread) Unwrap() []error { return []error{ErrBytes, u.err} }
-
 // Read reads what Write has written, and no other bytes.
 func Read(s string) ([]api.Entry, error) {
 	l, err := readWhole(s)
-	if err != nil {
-		return nil, &unread{err}
-	}
-	return l, nil
+	return l, fault.Under(ErrBytes, err)
 }
 
 // readWhole holds the bytes against those that the list is written as: so no second way of writing it, and nothing behind it, is taken.

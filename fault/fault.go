@@ -50,3 +50,20 @@ func At(name string, index int, err error) error {
 	}
 	return &place{name, index, err}
 }
+
+// headed is an error under another one, which says what it all comes to.
+type headed struct {
+	head, err error
+}
+
+func (h *headed) Error() string { return h.head.Error() + ": " + h.err.Error() }
+
+func (h *headed) Unwrap() []error { return []error{h.head, h.err} }
+
+// Under puts an error under another one; where nothing is wrong it answers nil.
+func Under(head, err error) error {
+	if err == nil {
+		return nil
+	}
+	return &headed{head, err}
+}

@@ -44,4 +44,23 @@ func TestNothingWrongStaysNil(t *testing.T) {
 	if err := At("entry", 0, nil); err != nil {
 		t.Errorf("At of nil is %v", err)
 	}
+	if err := Under(Number(api.ErrFiles), nil); err != nil {
+		t.Errorf("Under with nil is %v", err)
+	}
+}
+
+func TestHeadAndWhatIsUnderIt(t *testing.T) {
+	err := At("file", 1, Under(Number(api.ErrFiles), At("change", 2, Number(api.ErrMany))))
+	if want := "file 1: files that no source has left behind: change 2: too many entries"; err.Error() != want {
+		t.Errorf("text %q, want %q", err, want)
+	}
+	for n := api.ErrValue; n <= api.ErrFull; n++ {
+		if errors.Is(err, Number(n)) != (n == api.ErrFiles || n == api.ErrMany) {
+			t.Errorf("errors.Is does not tell %d in %q", n, err)
+		}
+	}
+	var first Number
+	if !errors.As(err, &first) || first != Number(api.ErrFiles) {
+		t.Errorf("errors.As finds %d first", first)
+	}
 }

@@ -2,6 +2,8 @@
 package history
 
 import (
+	"slices"
+
 	"tidings/api"
 	"tidings/fault"
 	"tidings/lists"
@@ -28,6 +30,27 @@ func New() *History {
 	return &History{marks: []mark{{}}}
 }
 
+// Restore makes the history that has this view at its floor, and these changes behind it. The lists are in order, and kept.
+func Restore(floor int, view []api.Entry, changes [][]api.Entry) (*History, error) {
+	if floor+len(changes) > api.MaxTime {
+		return nil, fault.At("change", api.MaxTime+1, fault.Number(api.ErrFull))
+	}
+	h := &History{marks: []mark{{floor, view}}, view: view}
+	// A sum for each mark takes far less than one for each change, and the views between were looked at when they were published.
+	for part := range slices.Chunk(changes, step) {
+		h.changes = append(h.changes, part...)
+		view, err := h.View(h.Now())
+		if err == nil {
+			err = checkRoom(view)
+		}
+		if err != nil {
+			return nil, fault.At("change", h.Now(), err)
+		}
+		h.show(view)
+	}
+	return h, nil
+}
+
 // Floor is the earliest time whose view is kept.
 func (h *History) Floor() int { return h.marks[0].time }
 
@@ -45,11 +68,16 @@ func (h *History) Publish(l []api.Entry) error {
 		return fault.At("change", h.Now()+1, err)
 	}
 	h.changes = append(h.changes, change)
+	h.show(view)
+	return nil
+}
+
+// show takes the view behind the last change.
+func (h *History) show(view []api.Entry) {
 	h.view = view
 	if last := h.marks[len(h.marks)-1]; h.Now() == last.time+step {
 		h.marks = append(h.marks, mark{h.Now(), view})
 	}
-	return nil
 }
 
 // viewBehind answers the view behind a change that is still to come.
@@ -58,10 +86,38 @@ func (h *History) viewBehind(change []api.Entry) ([]api.Entry, error) {
 		return nil, fault.Number(api.ErrFull)
 	}
 	view, err := lists.Sum(lists.Term{List: h.view}, lists.Term{List: change})
-	if err == nil && len(view) > api.MaxRows {
-		return nil, fault.At("row", api.MaxRows, fault.Number(api.ErrFull))
+	if err != nil {
+		return nil, err
 	}
-	return view, err
+	return view, checkRoom(view)
+}
+
+func checkRoom(view []api.Entry) error {
+	if len(view) > api.MaxRows {
+		return fault.At("row", api.MaxRows, fault.Number(api.ErrFull))
+	}
+	return nil
+}
+
+// Change answers the change of a time behind the floor. It is not to be written into.
+func (h *History) Change(time int) []api.Entry { return h.changes[time-h.Floor()-1] }
+
+// Forget makes a time the floor. With an error nothing is forgotten.
+func (h *History) Forget(time int) error {
+	view, err := h.View(time)
+	if err != nil {
+		return err
+	}
+	// A copy, for a piece of the old slice would hold on to what is forgotten.
+	h.changes = slices.Clone(h.changes[time-h.Floor():])
+	marks := []mark{{time, view}}
+	for _, m := range h.marks {
+		if m.time > time {
+			marks = append(marks, m)
+		}
+	}
+	h.marks = marks
+	return nil
 }
 
 // View answers the view at a time, as new memory.

@@ -261,6 +261,10 @@ func TestNoGoroutineIsLeft(t *testing.T) {
 	heavy := list(entry(most, one), entry(1, one), entry(1, number(2)), entry(1, number(3)))
 	source := opened(t)
 	publish(t, source, heavy[0])
+	left := &disk{}
+	first := left.opened(t)
+	left.publish(t, first, heavy[2:]...)
+	left.publish(t, first, heavy[3:]...)
 	before := runtime.NumGoroutine()
 	for range 200 {
 		source.Publish(heavy)
@@ -268,6 +272,12 @@ func TestNoGoroutineIsLeft(t *testing.T) {
 		source.Publish(heavy[2:])
 		source.View(source.Span().Now)
 		source.View(-1)
+		source.Sync()
+		source.Compact(max(0, source.Span().Now-3))
+		source.Compact(-1)
+		tidings.Open(left.file[0], left.file[1])
+		tidings.Open(left.file[0], "\x00")
+		tidings.Open(left.file[0][1:], "x")
 		tidings.Normal(heavy)
 		tidings.Less(heavy[:1], list(entry(-1, one), entry(1, number(5)), entry(1, number(6))))
 		tidings.Less(heavy[1:], heavy[2:])

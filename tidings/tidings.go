@@ -7,13 +7,13 @@ import (
 	"tidings/api"
 	"tidings/code"
 	"tidings/fault"
-	"tidings/history"
 	"tidings/lists"
+	"tidings/store"
 )
 
 // Source keeps the history of a view; Mirror follows one.
 type Source struct {
-	past *history.History
+	kept *store.Store
 }
 
 type Mirror struct{}
@@ -42,10 +42,12 @@ func Decode(s string) ([]api.Entry, api.Errno) {
 	return l, errnoOf(err)
 }
 
-// errnoOf asks for bytes first: what was wrong with the list inside them has a number too.
+// errnoOf asks for files first, then for bytes: what was wrong inside them has a number too.
 func errnoOf(err error) api.Errno {
 	var n fault.Number
 	switch {
+	case errors.Is(err, fault.Number(api.ErrFiles)):
+		return api.ErrFiles
 	case errors.Is(err, code.ErrBytes):
 		return api.ErrCode
 	case errors.As(err, &n):
@@ -56,33 +58,36 @@ func errnoOf(err error) api.Errno {
 
 // Open opens the source that two files hold (P7, P10).
 func Open(a string, b string) (*Source, []api.Act, api.Errno) {
-	if a != "" || b != "" {
-		return nil, nil, api.ErrFiles
+	kept, acts, err := store.Open([2]string{a, b})
+	if err != nil {
+		return nil, nil, errnoOf(err)
 	}
-	return &Source{past: history.New()}, nil, api.OK
+	return &Source{kept}, acts, api.OK
 }
 
 // Publish adds a change (P8).
 func (s *Source) Publish(l []api.Entry) ([]api.Act, api.Errno) {
-	return nil, errnoOf(s.past.Publish(l))
+	acts, err := s.kept.Publish(l)
+	return acts, errnoOf(err)
 }
 
 // Sync makes lasting what there is (P9).
-func (s *Source) Sync() []api.Act { return nil }
+func (s *Source) Sync() []api.Act { return s.kept.Sync() }
 
 // Compact forgets the views ahead of a time (P9).
-func (s *Source) Compact(time int) ([]api.Act, api.Errno) { return nil, api.OK }
+func (s *Source) Compact(time int) ([]api.Act, api.Errno) {
+	acts, err := s.kept.Compact(time)
+	return acts, errnoOf(err)
+}
 
 // View tells the view at a time (P8).
 func (s *Source) View(time int) ([]api.Entry, api.Errno) {
-	l, err := s.past.View(time)
+	l, err := s.kept.View(time)
 	return l, errnoOf(err)
 }
 
-// Span tells which times there are (P8). As long as no file is written nothing lasts.
-func (s *Source) Span() api.Span {
-	return api.Span{Floor: s.past.Floor(), Now: s.past.Now()}
-}
+// Span tells which times there are (P8).
+func (s *Source) Span() api.Span { return s.kept.Span() }
 
 // Handle takes a datagram in (P11).
 func (s *Source) Handle(data string) []string { return nil }
