@@ -40,9 +40,6 @@ func Restore(floor int, view []api.Entry, changes [][]api.Entry) (*History, erro
 	for part := range slices.Chunk(changes, step) {
 		h.changes = append(h.changes, part...)
 		view, err := h.View(h.Now())
-		if err == nil {
-			err = checkRoom(view)
-		}
 		if err != nil {
 			return nil, fault.At("change", h.Now(), err)
 		}
@@ -85,18 +82,7 @@ func (h *History) viewBehind(change []api.Entry) ([]api.Entry, error) {
 	if h.Now() >= api.MaxTime {
 		return nil, fault.Number(api.ErrFull)
 	}
-	view, err := lists.Sum(lists.Term{List: h.view}, lists.Term{List: change})
-	if err != nil {
-		return nil, err
-	}
-	return view, checkRoom(view)
-}
-
-func checkRoom(view []api.Entry) error {
-	if len(view) > api.MaxRows {
-		return fault.At("row", api.MaxRows, fault.Number(api.ErrFull))
-	}
-	return nil
+	return lists.View(lists.Term{List: h.view}, lists.Term{List: change})
 }
 
 // Change answers the change of a time behind the floor. It is not to be written into.
@@ -130,7 +116,7 @@ func (h *History) View(time int) ([]api.Entry, error) {
 	for _, c := range h.changes[from.time-h.Floor() : time-h.Floor()] {
 		terms = append(terms, lists.Term{List: c})
 	}
-	return lists.Sum(terms...)
+	return lists.View(terms...)
 }
 
 // markAt answers the last mark that is not later than a time, which is not below the floor.

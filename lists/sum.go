@@ -46,6 +46,15 @@ func Sum(terms ...Term) ([]api.Entry, error) {
 	return out, nil
 }
 
+// View merges the terms into a view: it answers ErrFull too, if there are more rows than one may have.
+func View(terms ...Term) ([]api.Entry, error) {
+	view, err := Sum(terms...)
+	if err == nil && len(view) > api.MaxRows {
+		return nil, fault.At("row", api.MaxRows, fault.Number(api.ErrFull))
+	}
+	return view, err
+}
+
 // start sets a sender to work for each term; it answers the streams that are not empty.
 func start(terms []Term, senders *sync.WaitGroup) []*stream {
 	var streams []*stream

@@ -66,6 +66,9 @@ func (s *Store) move() []api.Act {
 // View answers the view at a time, as new memory.
 func (s *Store) View(time int) ([]api.Entry, error) { return s.past.View(time) }
 
+// Change answers the change of a time behind the floor. It is not to be written into.
+func (s *Store) Change(time int) []api.Entry { return s.past.Change(time) }
+
 // Span tells which times there are.
 func (s *Store) Span() api.Span {
 	return api.Span{Floor: s.past.Floor(), Lasting: s.lasting, Now: s.past.Now()}

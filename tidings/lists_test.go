@@ -265,6 +265,11 @@ func TestNoGoroutineIsLeft(t *testing.T) {
 	first := left.opened(t)
 	left.publish(t, first, heavy[2:]...)
 	left.publish(t, first, heavy[3:]...)
+	left.play(t, first.Sync())
+	asked := tidings.NewMirror().Tick()[0]
+	answers := first.Handle(asked)
+	first.Compact(2)
+	answers = append(answers, first.Handle(asked)...)
 	before := runtime.NumGoroutine()
 	for range 200 {
 		source.Publish(heavy)
@@ -278,6 +283,13 @@ func TestNoGoroutineIsLeft(t *testing.T) {
 		tidings.Open(left.file[0], left.file[1])
 		tidings.Open(left.file[0], "\x00")
 		tidings.Open(left.file[0][1:], "x")
+		first.Handle(asked)
+		mirror := tidings.NewMirror()
+		for _, data := range answers {
+			mirror.Handle(data)
+		}
+		mirror.Tick()
+		mirror.View()
 		tidings.Normal(heavy)
 		tidings.Less(heavy[:1], list(entry(-1, one), entry(1, number(5)), entry(1, number(6))))
 		tidings.Less(heavy[1:], heavy[2:])

@@ -7,7 +7,9 @@ import (
 	"tidings/api"
 	"tidings/code"
 	"tidings/fault"
+	"tidings/feed"
 	"tidings/lists"
+	"tidings/mirror"
 	"tidings/store"
 )
 
@@ -16,7 +18,9 @@ type Source struct {
 	kept *store.Store
 }
 
-type Mirror struct{}
+type Mirror struct {
+	kept *mirror.Mirror
+}
 
 // Normal puts entries in order (P4).
 func Normal(l []api.Entry) ([]api.Entry, api.Errno) {
@@ -90,16 +94,19 @@ func (s *Source) View(time int) ([]api.Entry, api.Errno) {
 func (s *Source) Span() api.Span { return s.kept.Span() }
 
 // Handle takes a datagram in (P11).
-func (s *Source) Handle(data string) []string { return nil }
+func (s *Source) Handle(data string) []string { return feed.Answer(s.kept, data) }
 
 // NewMirror makes a mirror (P12).
-func NewMirror() *Mirror { return nil }
+func NewMirror() *Mirror { return &Mirror{mirror.New()} }
 
 // Tick lets a tick go by (P12).
-func (m *Mirror) Tick() []string { return nil }
+func (m *Mirror) Tick() []string { return m.kept.Tick() }
 
 // Handle takes a datagram in (P12).
-func (m *Mirror) Handle(data string) []string { return nil }
+func (m *Mirror) Handle(data string) []string {
+	m.kept.Handle(data)
+	return nil
+}
 
 // View tells what the mirror shows, and of which time (P12).
-func (m *Mirror) View() ([]api.Entry, int) { return nil, 0 }
+func (m *Mirror) View() ([]api.Entry, int) { return m.kept.View() }
