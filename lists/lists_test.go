@@ -111,6 +111,29 @@ func TestSumOfTerms(t *testing.T) {
 	}
 }
 
+// TestRoomOfView: a weight that does not fit is named ahead of rows that do not.
+func TestRoomOfView(t *testing.T) {
+	var rows []api.Entry
+	for i := range int64(128) {
+		rows = append(rows, entry(1, number(i)))
+	}
+	one, heavy := []api.Entry{entry(1, number(-1))}, []api.Entry{entry(math.MaxInt64, number(0))}
+	if view, err := View(Term{List: rows}, Term{List: one}, Term{List: one, Away: true}); err != nil || !slices.Equal(view, rows) {
+		t.Errorf("a view of 128 rows: %v, %v", view, err)
+	}
+	for _, c := range []struct {
+		terms []Term
+		want  string
+	}{
+		{[]Term{{List: rows}, {List: one}}, "row 128: no more room"},
+		{[]Term{{List: rows}, {List: one}, {List: heavy}}, "row 1: a weight that 64 bits do not hold"},
+	} {
+		if view, err := View(c.terms...); view != nil || err == nil || err.Error() != c.want {
+			t.Errorf("View = %v, %v, want %s", view, err, c.want)
+		}
+	}
+}
+
 func TestSumTooGreatEndsAllSenders(t *testing.T) {
 	long := []api.Entry{entry(math.MaxInt64, number(1)), entry(1, number(2)), entry(1, number(3)), entry(1, number(4))}
 	out, err := Sum(Term{List: long}, Term{List: long}, Term{List: long[2:]})
